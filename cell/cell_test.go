@@ -537,7 +537,7 @@ func countShort() int {
 	return sum(texts, values) + sum(texts, texts, values) + sum(texts, values, texts, texts, values) + sum(texts)
 }
 
-// A key of invalid components can be that of others, but never a key with invalid ones.
+// An invalid component leaves one too few, so what is returned then is never a key.
 func TestParseKeysOfInvalidComponents(t *testing.T) {
 	x := value.Text("x")
 	for _, key := range []string{
